@@ -1,0 +1,1 @@
+"""Crossedwishes: two ends that agree by letters."""

@@ -3,26 +3,9 @@ import unittest
 
 from crossedwishes.answers import answer, behind, is_answer
 from crossedwishes.wishes import ask_of, plan_of
-from tests.things import STRANGE, kin
+from tests.things import STRANGE, free_answers, kin, wish
 
 BOUNDS = (("a", (3, 1, 2)), ("b", (0,)), ("c", (1, 0)))
-
-
-def wish(kind, worths=(1,), must=False, needs=None):
-    return (kind, worths, must, needs)
-
-
-def free_answers(bounds, ask):
-    """All answers of bounds to an ask, each written out choice by choice."""
-    known = {kind: worths for kind, worths in bounds}
-    strange = [pair for pair in ask if pair[0] not in known]
-    unfit = [pair for pair in ask if pair[0] in known and pair[1] not in known[pair[0]]]
-    if strange:
-        return [("no", tuple(strange))]
-    if not unfit:
-        return [("yes", ask)]
-    choices = [[(kind, worth) for worth in known[kind]] for kind, asked in unfit]
-    return [("rather", pairs) for pairs in itertools.product(*choices)]
 
 
 class Answer(unittest.TestCase):

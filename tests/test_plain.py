@@ -3,7 +3,7 @@ import unittest
 from crossedwishes.plain import has_parts, is_same, is_whole
 from tests.things import STRANGE, kin
 
-TOLD = [(), "a", 0, 1, True, False, None, ("a", (0, 1)), ("a", (("b", 1), ("c", True)), None, (False, ()))]
+TOLD = [[], [("a", 0)], ["a", [1, (0,)], None], (), "a", 0, 1, True, False, None, ("a", (0, 1)), ("a", (("b", 1), ("c", True)), None, (False, ()))]
 
 
 class Plain(unittest.TestCase):

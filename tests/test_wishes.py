@@ -2,16 +2,12 @@ import itertools
 import unittest
 
 from crossedwishes.wishes import are_bounds, are_wishes, ask_of, is_book, is_name, is_wish, is_worth, plan_of
-from tests.things import STRANGE, kin
+from tests.things import STRANGE, kin, wish
 
 SIX = (0, 1, 2, 3, 4, 9999)
 SEVEN = (0, 1, 2, 3, 4, 5, 6)
 PLAIN = ("size", (3, 1, 2), False, None)
 KINDS = "abcdefghi"
-
-
-def wish(kind, worths=(1,), must=False, needs=None):
-    return (kind, worths, must, needs)
 
 
 class Truths(unittest.TestCase):

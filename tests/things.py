@@ -1,10 +1,68 @@
-"""Things that tests hand in where the document says "of anything"."""
+"""What several tests hand in: wishes, answers, and things where the document says "of anything"."""
+
+import itertools
+
+from crossedwishes.answers import behind
+from crossedwishes.wishes import ask_of, plan_of
+
+
+def wish(kind, worths=(1,), must=False, needs=None):
+    return (kind, worths, must, needs)
+
+
+def free_answers(bounds, ask):
+    """All answers of bounds to an ask, each written out choice by choice."""
+    known = {kind: worths for kind, worths in bounds}
+    strange = [pair for pair in ask if pair[0] not in known]
+    unfit = [pair for pair in ask if pair[0] in known and pair[1] not in known[pair[0]]]
+    if strange:
+        return [("no", tuple(strange))]
+    if not unfit:
+        return [("yes", ask)]
+    choices = [[(kind, worth) for worth in known[kind]] for kind, asked in unfit]
+    return [("rather", pairs) for pairs in itertools.product(*choices)]
 
 
 def nested(thing, wrap, deep=29):
     for turn in range(deep):
         thing = wrap(thing)
     return thing
+
+
+def all_courses(wishes, bounds, plan=None):
+    """Each course, with what it comes to."""
+    plan = plan_of(wishes) if plan is None else plan
+    ask = ask_of(wishes, plan)
+    found = []
+    for said in free_answers(bounds, ask):
+        came = behind(wishes, plan, said)
+        if came[0] == "plan":
+            found.extend([([(ask, said)] + steps, end) for steps, end in all_courses(wishes, bounds, came[1])])
+        else:
+            found.append(([(ask, said)], came))
+    return found
+
+
+# Wishes and bounds that agree, fail and do now the one, now the other, as they are put together.
+SMALL_WISHES = [
+    (),
+    (wish("a", (1, 2)),),
+    (wish("a", (3, 1, 2), True),),
+    (wish("b", (3, 1, 2), True), wish("a", (1, 0), False, ("b", 1)), wish("c", (7, 2))),
+    (wish("a", (1, 2)), wish("b", (1, 2), False, ("a", 2)), wish("c", (1, 2), True, ("b", 2))),
+    (wish("c", (2, 0, 1)), wish("a", (0, 1, 2))),
+    (wish("a", (1, 2, 3)), wish("d", (4,), True, ("a", 2))),
+    (wish("d", (1,), True), wish("a", (1,), True)),
+]
+SMALL_BOUNDS = [
+    (),
+    (("a", (2, 3)),),
+    (("a", (2, 1)), ("b", (2, 4)), ("c", (2, 9))),
+    (("c", (5, 6)), ("a", (5, 0))),
+    (("a", (9, 8)), ("b", (1, 9)), ("c", (4,))),
+    (("d", (1,)), ("a", (1, 2))),
+]
+SMALL = [(wishes, bounds) for wishes in SMALL_WISHES for bounds in SMALL_BOUNDS]
 
 
 # Unlike things of every kind that point 2 names, at its edges too; none is a name, a worth, a wish or a pair.
@@ -37,10 +95,11 @@ def kin(thing):
         yield thing.upper()
         yield thing + "\n"
         yield " " + thing
-    elif isinstance(thing, tuple):
-        yield list(thing)
+    elif isinstance(thing, (tuple, list)):
+        same, other = (tuple, list) if isinstance(thing, tuple) else (list, tuple)
+        yield other(thing)
         yield None
         for at, part in enumerate(thing):
-            yield thing[:at] + thing[at + 1:] + ([],)
-            for other in kin(part):
-                yield thing[:at] + (other,) + thing[at + 1:]
+            yield thing[:at] + thing[at + 1:] + same([[]])
+            for unlike in kin(part):
+                yield thing[:at] + same([unlike]) + thing[at + 1:]

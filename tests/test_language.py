@@ -115,6 +115,22 @@ class Language(unittest.TestCase):
                 if isinstance(node, ast.arg) or isinstance(node, ast.Name) and isinstance(node.ctx, ast.Store):
                     self.assertNotIn(node.arg if isinstance(node, ast.arg) else node.id, dir(builtins), name)
 
+    def test_no_name_in_a_function_is_that_of_an_import_or_a_class(self):
+        for name, tree in self.trees():
+            taken = {part.asname or part.name for node in tree.body if isinstance(node, ast.ImportFrom) for part in node.names}
+            taken |= {node.name for node in tree.body if isinstance(node, ast.ClassDef)}
+            for node in ast.walk(tree):
+                if isinstance(node, ast.arg):
+                    self.assertNotIn(node.arg, taken, name)
+                if isinstance(node, ast.Name) and isinstance(node.ctx, ast.Store):
+                    self.assertNotIn(node.id, taken, name)
+
+    def test_what_a_table_holds_is_named_and_then_called(self):
+        for name, tree in self.trees():
+            for node in ast.walk(tree):
+                if isinstance(node, ast.Call):
+                    self.assertIsInstance(node.func, (ast.Name, ast.Attribute), (name, node.lineno))
+
     def test_statements_and_values(self):
         for name, tree in self.trees():
             for node in ast.walk(tree):

@@ -43,6 +43,32 @@ def all_courses(wishes, bounds, plan=None):
     return found
 
 
+# As point 12 names and orders them.
+END_PARTS = "name wishes stand turn yours number plan refused given heard took last tries echoes why".split()
+
+
+def part(end, name):
+    return end[END_PARTS.index(name)]
+
+
+def with_parts(end, **parts):
+    """An end with some parts otherwise; tests write out what an event is to change, and so that all else stays."""
+    assert set(parts) <= set(END_PARTS)
+    return tuple([parts.get(name, old) for name, old in zip(END_PARTS, end, strict=True)])
+
+
+def closed_as(end, why, **parts):
+    """What point 13 says of an end that is closed: turn, yours, wishes and echoes stay, the rest is as in a new one."""
+    kept = {name: part(end, name) for name in ("turn", "yours", "echoes")}
+    new = (part(end, "name"), part(end, "wishes"), "closed", 0, 0, 0, (), (), None, 0, None, None, 0, 0, why)
+    return with_parts(with_parts(new, **kept), **parts)
+
+
+# As the interface lists them.
+TESTS = "closed open given own third elder newer mine tries late heard its agreed planned failed must".split()
+ACTS = "turn learn anew ask here there bye answer last echo less full give plan wish on".split()
+ACTS += ["end closed", "end tries", "end failed", "end echo", "end bye"]
+
 # Wishes and bounds that agree, fail and do now the one, now the other, as they are put together.
 SMALL_WISHES = [
     (),

@@ -2,6 +2,7 @@
 
 from crossedwishes.answers import answer, behind
 from crossedwishes.ends import ask_by, bare_by, begun, changed, letter_by, outcome, parts_of, shut
+from crossedwishes.letters import BARE_WORDS
 
 MOST_ECHOES = 3
 
@@ -34,6 +35,19 @@ def heard(end, letter, bounds, *, tries=3):
         return outcome(parts, letters)
     parts, more = behind_word(parts, letter, bounds, tries)
     return outcome(parts, letters + more)
+
+
+def as_lesser_hears(end, letter):
+    """A letter with the number by which an end takes up any ask, and any answer as one to its own."""
+    who, word, mine, yours, number, pairs = letter
+    parts = parts_of(end)
+    # A newer letter is taken up behind a beginning anew: nothing is heard then, and the own number is 1.
+    anew = mine > parts["yours"]
+    if word == "ask":
+        number = 1 if anew else parts["heard"] + 1
+    elif word not in BARE_WORDS:
+        number = 1 if anew else parts["number"]
+    return (who, word, mine, yours, number, pairs)
 
 
 def echoed(parts):

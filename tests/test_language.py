@@ -144,6 +144,45 @@ class Language(unittest.TestCase):
                     # Classes with == are still to come, and beside them these take lists alone.
                     self.assertFalse([part for part in node.args if isinstance(part, ast.GeneratorExp)], name)
 
+    def test_no_name_is_a_method_here_and_an_attribute_there(self):
+        methods, attributes = set(), set()
+        for name, tree in self.trees():
+            for node in ast.walk(tree):
+                if isinstance(node, ast.ClassDef):
+                    methods |= {part.name for part in node.body if isinstance(part, ast.FunctionDef)}
+                if isinstance(node, ast.Attribute) and isinstance(node.ctx, ast.Store):
+                    attributes.add(node.attr)
+        self.assertEqual(methods & attributes, set())
+        self.assertEqual(attributes & set("items keys values pop update append clear extend insert remove args".split()), set())
+
+    def test_methods_that_python_calls_change_nothing(self):
+        for name, tree in self.trees():
+            for node in ast.walk(tree):
+                if isinstance(node, ast.FunctionDef) and node.name in ("__eq__", "__repr__", "__str__", "__len__"):
+                    self.assertIsInstance(node.body[-1], ast.Return, (name, node.name))
+                    barred = (ast.Assign, ast.AugAssign, ast.Delete, ast.NamedExpr)
+                    self.assertFalse([part for part in ast.walk(node) if isinstance(part, barred)], (name, node.lineno))
+
+    def test_own_errors_alone_are_caught_and_what_is_last_is_plain(self):
+        own = {node.name for name, tree in self.trees() if name == "errors.py" for node in tree.body if isinstance(node, ast.ClassDef)}
+        for name, tree in self.trees():
+            for node in ast.walk(tree):
+                if isinstance(node, ast.ExceptHandler):
+                    caught = node.type.elts if isinstance(node.type, ast.Tuple) else [node.type]
+                    self.assertLessEqual({part.id for part in caught}, own, (name, node.lineno))
+                if isinstance(node, ast.Try):
+                    for part in node.finalbody:
+                        self.assertIsInstance(part, ast.Assign, (name, part.lineno))
+                        self.assertIsInstance(part.value, (ast.Name, ast.Constant), (name, part.lineno))
+
+    def test_sets_are_kept_in_one_function(self):
+        for name, tree in self.trees():
+            for node in ast.walk(tree):
+                if isinstance(node, ast.Assign) and isinstance(node.value, ast.Call) and getattr(node.value.func, "id", "") == "set":
+                    self.assertIsInstance(node.targets[0], ast.Name, (name, node.lineno))
+                if isinstance(node, ast.Attribute) and node.attr == "sort":
+                    self.fail((name, node.lineno))
+
     def test_no_two_files_import_one_another(self):
         ahead = {}
         for name, tree in self.trees():

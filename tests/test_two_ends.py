@@ -8,15 +8,8 @@ from crossedwishes.hearing import heard, stands_open_with
 from crossedwishes.letters import is_letter
 from crossedwishes.machine import by_rows
 from crossedwishes.rows import told_rows
-from tests.things import SMALL_BOUNDS, SMALL_WISHES, part, wish
+from tests.things import BOOKS, SMALL_BOUNDS, SMALL_WISHES, part, wish, worths_of
 
-BOOKS = [
-    ((wish("a", (3, 1, 2), True), wish("b", (1,), False, ("a", 1))), (("c", (2, 1)), ("d", (0,)))),
-    ((wish("c", (5, 1)), wish("e", (1,)), wish("d", (3, 0), True)), (("a", (1, 2)), ("b", (1,)))),
-    ((wish("d", (1, 2), True),), (("a", (7,)), ("c", (1,)))),
-    ((), ()),
-    ((wish("a", (1, 2)), wish("c", (1, 2), True, ("a", 2))), (("a", (1, 2, 3)), ("b", (5,)), ("c", (1, 5)), ("d", (2, 0)), ("e", (1,)))),
-]
 ROWS = told_rows()
 
 
@@ -108,10 +101,6 @@ class Talk:
                     if not self.closed(who):
                         self.happens(who, ("tick",))
         return came
-
-
-def worths_of(wishes):
-    return sum([len(one[1]) for one in wishes])
 
 
 class TwoEnds(unittest.TestCase):

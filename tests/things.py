@@ -91,6 +91,50 @@ SMALL_BOUNDS = [
 SMALL = [(wishes, bounds) for wishes in SMALL_WISHES for bounds in SMALL_BOUNDS]
 
 
+# Books whose ends agree, and some that don't.
+BOOKS = [
+    ((wish("a", (3, 1, 2), True), wish("b", (1,), False, ("a", 1))), (("c", (2, 1)), ("d", (0,)))),
+    ((wish("c", (5, 1)), wish("e", (1,)), wish("d", (3, 0), True)), (("a", (1, 2)), ("b", (1,)))),
+    ((wish("d", (1, 2), True),), (("a", (7,)), ("c", (1,)))),
+    ((), ()),
+    ((wish("a", (1, 2)), wish("c", (1, 2), True, ("a", 2))), (("a", (1, 2, 3)), ("b", (5,)), ("c", (1, 5)), ("d", (2, 0)), ("e", (1,)))),
+]
+
+
+def other_name(who):
+    return "b" if who == "a" else "a"
+
+
+def worths_of(wishes):
+    return sum([len(one[1]) for one in wishes])
+
+
+LED_WORDS = ("open", "tick", "wish", "close", "come", "lost", "twice", "back")
+
+
+def some_deed(dice, wire, wishes=(), weights=(6, 4, 1, 1, 24, 2, 4, 1)):
+    """A deed that can be done on a wire; None where the dice fell on one that can't."""
+    word = dice.choices(LED_WORDS, weights)[0]
+    who = dice.choice("ab")
+    is_closed = part(wire.ends()["ab".index(who)], "stand") == "closed"
+    if word == "wish":
+        return ("wish", who, dice.choice(wishes)) if wishes else None
+    if word == "tick" or word == "open" and is_closed or word == "close" and not is_closed:
+        return (word, who)
+    if word in ("open", "close") or not wire.air() or word == "twice" and len(wire) > 30:
+        return None
+    return (word, dice.randrange(len(wire)))
+
+
+def lead(dice, wire, many, wishes=()):
+    """Does so many deeds on a wire, as the dice fall."""
+    while many:
+        deed = some_deed(dice, wire, wishes)
+        if deed is not None:
+            wire.do(deed)
+            many -= 1
+
+
 # Unlike things of every kind that point 2 names, at its edges too; none is a name, a worth, a wish or a pair.
 STRANGE = [
     None, True, False, -1, -2, 10000, 10 ** 99, 10 ** 100 - 1, -(10 ** 99),

@@ -29,7 +29,7 @@ def closing(end):
     parts = parts_of(end)
     if parts["stand"] == "closed":
         raise NotOpen()
-    return outcome(shut(parts, "closed"), [bare_by(parts, "bye")])
+    return ended(parts, "closed")
 
 
 def ticked(end):
@@ -38,7 +38,7 @@ def ticked(end):
     if parts["stand"] == "closed":
         return outcome(parts, [])
     if parts["tries"] == 0:
-        return outcome(shut(parts, "tries"), [bare_by(parts, "bye")])
+        return ended(parts, "tries")
     now = changed(parts, tries=parts["tries"] - 1)
     return outcome(now, [ask_by(now) if now["given"] is None else bare_by(now, "here")])
 
@@ -50,7 +50,7 @@ def wished(end, wishes, *, tries=3):
     if parts["stand"] == "closed":
         return outcome(now, [])
     if lacks_must(parts, wishes):
-        return outcome(shut(now, "failed"), [bare_by(now, "bye")])
+        return ended(now, "failed")
     return outcome(now, [ask_by(now)])
 
 
@@ -92,6 +92,11 @@ def shut(parts, why):
         parts, stand="closed", number=0, plan=(), refused=(), given=None, heard=0, took=None, last=None, tries=0,
         why=why,
     )
+
+
+def ended(parts, why):
+    """What an event tells at which an end closes with a bye."""
+    return outcome(shut(parts, why), [bare_by(parts, "bye")])
 
 
 def with_wishes(parts, wishes, tries):

@@ -26,20 +26,12 @@ def read_book(text):
 
 def read_letter(text):
     """The letter that a text writes."""
-    need_text(text)
-    letter = letter_in(text)
-    if letter is None:
-        raise NoText(0)
-    return letter
+    return read_whole(text, letter_in)
 
 
 def read_deed(text):
     """The deed that a text writes."""
-    need_text(text)
-    deed = deed_in(text)
-    if deed is None:
-        raise NoText(0)
-    return deed
+    return read_whole(text, deed_in)
 
 
 def read_talk(text):
@@ -59,6 +51,15 @@ def need_text(thing):
         raise NoText(None)
 
 
+def read_whole(text, read):
+    """What a text that is no lines writes."""
+    need_text(text)
+    thing = read(text)
+    if thing is None:
+        raise NoText(0)
+    return thing
+
+
 def lines_of(text):
     """The lines of a text, without their line ends."""
     need_text(text)
@@ -71,10 +72,10 @@ def read_from(lines, read, are_such):
     """What the lines write from the first on, as far as it is such together."""
     things = ()
     for line in lines:
-        thing = read(line)
-        if thing is None or not are_such((*things, thing)):
+        more = (*things, read(line))
+        if not are_such(more):
             return things
-        things = (*things, thing)
+        things = more
     return things
 
 
